@@ -198,7 +198,7 @@ func TestTakeOfWhatEndsTooEarly(t *testing.T) {
 
 // TestTakeOfEachBeginning cuts the bytes of right objects: the place is the end of the part ahead of the one that isn't whole, but within a number the end of the text.
 func TestTakeOfEachBeginning(t *testing.T) {
-	for _, r := range slices.Concat(few(), each(twos(), 3), each(longs(), 4)) {
+	for _, r := range smalls() {
 		at := 0
 		for _, p := range parts(r.o) {
 			for n := range len(p.s) {
@@ -522,7 +522,7 @@ func TestDecodeOfEachError(t *testing.T) {
 }
 
 func TestDecodeOfEachBeginning(t *testing.T) {
-	for _, r := range slices.Concat(few(), each(singles(), 7), each(twos(), 3), each(longs(), 5)) {
+	for _, r := range smalls() {
 		for n := range len(r.s) {
 			wantDecoded(t, r.s[:n], api.Object{}, api.ErrShort)
 		}
